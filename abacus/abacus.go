@@ -2,6 +2,8 @@
 package abacus
 
 import (
+	"strings"
+
 	"abacus/api"
 	"abacus/number"
 )
@@ -13,13 +15,27 @@ func Print(bits uint64) string { return number.Print(bits) }
 func Scan(text string) (uint64, api.Errno) { return number.Scan(text) }
 
 // Writer writes a file.
-type Writer struct{}
+type Writer struct {
+	rest string // what Next has not given of the file
+}
 
 // NewWriter begins to write a matrix (P4).
-func NewWriter(buffer []uint64, v api.View, kind int) (*Writer, api.Errno) { return nil, api.OK }
+func NewWriter(buffer []uint64, v api.View, kind int) (*Writer, api.Errno) {
+	file, err := write(buffer, v, kind)
+	if err != api.OK {
+		return nil, err
+	}
+	return &Writer{rest: file}, api.OK
+}
 
 // Next gives the next bytes (P5).
-func (w *Writer) Next(most int) string { return "" }
+func (w *Writer) Next(most int) string {
+	n := min(max(most, 0), len(w.rest))
+	// A copy, lest a short answer that is kept hold the whole file.
+	next := strings.Clone(w.rest[:n])
+	w.rest = w.rest[n:]
+	return next
+}
 
 // Reader reads a file.
 type Reader struct{}

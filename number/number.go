@@ -17,6 +17,14 @@ const (
 	leastNormal  = leastPower + fractionBits
 )
 
+// Canonical is the number, or the canonical nan, if it is a nan.
+func Canonical(number uint64) uint64 {
+	if number&^signBit > infinity {
+		return canonicalNan
+	}
+	return number
+}
+
 // parts takes a size apart: it is whole times 2 to the power.
 func parts(size uint64) (whole uint64, power int) {
 	exponent := size >> fractionBits
