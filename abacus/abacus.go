@@ -5,7 +5,9 @@ import (
 	"strings"
 
 	"abacus/api"
+	"abacus/matrix"
 	"abacus/number"
+	"abacus/view"
 )
 
 // Print tells a number with as few digits as may be (P2).
@@ -38,16 +40,47 @@ func (w *Writer) Next(most int) string {
 }
 
 // Reader reads a file.
-type Reader struct{}
+type Reader struct {
+	state  state     // what takes the next piece
+	file   file      // nil ahead of the first byte, and when no more is to be read
+	err    api.Errno // of the file
+	whole  bool      // an End was OK, and what follows is the file's
+	matrix matrix.Matrix
+	kind   int
+}
 
 // NewReader begins to read a file (P6).
-func NewReader() *Reader { return nil }
+func NewReader() *Reader {
+	r := &Reader{}
+	r.state = r.begin
+	return r
+}
 
 // Feed takes the next bytes (P6).
-func (r *Reader) Feed(bytes string) api.Errno { return api.OK }
+func (r *Reader) Feed(bytes string) api.Errno {
+	next, err := r.state(bytes)
+	r.state = next
+	return err
+}
 
 // End ends a file (P8).
-func (r *Reader) End() (api.Shape, api.Errno) { return api.Shape{}, api.OK }
+func (r *Reader) End() (api.Shape, api.Errno) {
+	if !r.whole && r.err == api.OK {
+		r.state, r.err = r.finish()
+	}
+	return api.Shape{Rows: r.matrix.Rows, Cols: r.matrix.Cols, Kind: r.kind}, r.err
+}
 
 // Into writes the matrix into a buffer (P9).
-func (r *Reader) Into(buffer []uint64, v api.View) api.Errno { return api.OK }
+func (r *Reader) Into(buffer []uint64, v api.View) api.Errno {
+	switch {
+	case !r.whole:
+		return api.ErrEnd
+	case !view.Fits(v, len(buffer)):
+		return api.ErrView
+	case v.Rows != r.matrix.Rows || v.Cols != r.matrix.Cols:
+		return api.ErrShape
+	}
+	view.Put(buffer, v, r.matrix)
+	return api.OK
+}

@@ -1,4 +1,4 @@
-// Package box writes containers.
+// Package box writes and reads containers.
 package box
 
 import (
@@ -8,8 +8,7 @@ import (
 )
 
 const (
-	mark          = "ABAC"
-	version uint8 = 1
+	mark = "ABAC\x01" // which each container begins with
 
 	rowByRow       uint8 = 0
 	columnByColumn uint8 = 1
@@ -25,8 +24,7 @@ func head(m matrix.Matrix, kind int) []byte {
 	if kind == api.ColumnBox {
 		order = columnByColumn
 	}
-	bytes := words.Append([]byte(mark), version)
-	bytes = words.Append(bytes, order)
+	bytes := words.Append([]byte(mark), order)
 	bytes = words.Append(bytes, uint16(m.Rows))
 	return words.Append(bytes, uint16(m.Cols))
 }

@@ -1,4 +1,4 @@
-// Package market writes texts: Matrix Market files.
+// Package market writes and reads texts: Matrix Market files.
 package market
 
 import (

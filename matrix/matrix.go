@@ -39,74 +39,67 @@ func (m Matrix) Set(p Place, number uint64) {
 	m.numbers[p.Row*m.Cols+p.Col] = number
 }
 
+// Places goes through the places that a file of the kind may tell of, in its order.
+func (m Matrix) Places(kind int) iter.Seq[Place] {
+	switch {
+	case kind == api.RowBox:
+		return m.byRows
+	case kinds.Symmetric(kind):
+		return m.lower
+	}
+	return m.byColumns
+}
+
 // Entries goes through what a file of the kind tells of the matrix, in its order.
 func (m Matrix) Entries(kind int) iter.Seq2[Place, uint64] {
-	if kind == api.RowBox {
-		return m.byRows
+	return func(yield func(Place, uint64) bool) {
+		for p := range m.Places(kind) {
+			number := m.At(p)
+			// A place that has no entry is taken for +0; -0 is another number.
+			if kinds.Coordinate(kind) && number == 0 {
+				continue
+			}
+			if !yield(p, number) {
+				return
+			}
+		}
 	}
-	entries := iter.Seq2[Place, uint64](m.byColumns)
-	if kinds.Symmetric(kind) {
-		entries = m.lower
-	}
-	if kinds.Coordinate(kind) {
-		return only(entries, told)
-	}
-	return entries
 }
 
-func (m Matrix) byRows(yield func(Place, uint64) bool) {
+func (m Matrix) byRows(yield func(Place) bool) {
 	for row := range m.Rows {
 		for col := range m.Cols {
-			p := Place{row, col}
-			if !yield(p, m.At(p)) {
+			if !yield(Place{row, col}) {
 				return
 			}
 		}
 	}
 }
 
-func (m Matrix) byColumns(yield func(Place, uint64) bool) {
+func (m Matrix) byColumns(yield func(Place) bool) {
 	for col := range m.Cols {
 		for row := range m.Rows {
-			p := Place{row, col}
-			if !yield(p, m.At(p)) {
+			if !yield(Place{row, col}) {
 				return
 			}
 		}
 	}
 }
 
-// lower goes through the entries on and below the diagonal.
-func (m Matrix) lower(yield func(Place, uint64) bool) {
-	only(m.byColumns, notAbove)(yield)
-}
-
-// only goes through those of the entries that keep is true of.
-func only(entries iter.Seq2[Place, uint64], keep func(Place, uint64) bool) iter.Seq2[Place, uint64] {
-	return func(yield func(Place, uint64) bool) {
-		for p, number := range entries {
-			if keep(p, number) && !yield(p, number) {
-				return
-			}
+// lower goes through the places on and below the diagonal.
+func (m Matrix) lower(yield func(Place) bool) {
+	for p := range m.byColumns {
+		if p.Row >= p.Col && !yield(p) {
+			return
 		}
 	}
-}
-
-func notAbove(p Place, _ uint64) bool {
-	return p.Row >= p.Col
-}
-
-// told holds for all but +0, which a place that has no entry is taken for; -0 is
-// another number.
-func told(_ Place, number uint64) bool {
-	return number != 0
 }
 
 // Symmetric tells whether a square matrix is the same, bit for bit, with rows and
 // columns exchanged.
 func (m Matrix) Symmetric() bool {
-	for p, number := range m.lower {
-		if m.At(p.Mirrored()) != number {
+	for p := range m.lower {
+		if m.At(p) != m.At(p.Mirrored()) {
 			return false
 		}
 	}

@@ -53,6 +53,38 @@ func TestEntries(t *testing.T) {
 	}
 }
 
+func TestPlaces(t *testing.T) {
+	for _, c := range []struct {
+		rows, cols, kind int
+		want             []Place
+	}{
+		{2, 3, api.ArrayGeneral, []Place{{0, 0}, {1, 0}, {0, 1}, {1, 1}, {0, 2}, {1, 2}}},
+		{2, 3, api.CoordinateGeneral, []Place{{0, 0}, {1, 0}, {0, 1}, {1, 1}, {0, 2}, {1, 2}}},
+		{3, 3, api.ArraySymmetric, []Place{{0, 0}, {1, 0}, {2, 0}, {1, 1}, {2, 1}, {2, 2}}},
+		{3, 3, api.CoordinateSymmetric, []Place{{0, 0}, {1, 0}, {2, 0}, {1, 1}, {2, 1}, {2, 2}}},
+		{2, 3, api.RowBox, []Place{{0, 0}, {0, 1}, {0, 2}, {1, 0}, {1, 1}, {1, 2}}},
+		{2, 3, api.ColumnBox, []Place{{0, 0}, {1, 0}, {0, 1}, {1, 1}, {0, 2}, {1, 2}}},
+		{0, 3, api.RowBox, nil},
+		{3, 0, api.ColumnBox, nil},
+		{0, 0, api.ArraySymmetric, nil},
+	} {
+		m := New(c.rows, c.cols)
+		// Stopped behind every place, and not at all.
+		for most := 1; most <= len(c.want)+1; most++ {
+			var got []Place
+			for p := range m.Places(c.kind) {
+				got = append(got, p)
+				if len(got) == most {
+					break
+				}
+			}
+			if want := c.want[:min(most, len(c.want))]; !slices.Equal(got, want) {
+				t.Errorf("kind %d, %d by %d: %v, want %v", c.kind, c.rows, c.cols, got, want)
+			}
+		}
+	}
+}
+
 func TestSymmetric(t *testing.T) {
 	for n := range 6 {
 		for row := range n {

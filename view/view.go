@@ -65,8 +65,15 @@ func at(v api.View, row, col int) int {
 // nan for all nans, as files know no other.
 func Copy(buffer []uint64, v api.View) matrix.Matrix {
 	m := matrix.New(v.Rows, v.Cols)
-	for p := range m.Entries(api.RowBox) {
+	for p := range m.Places(api.RowBox) {
 		m.Set(p, number.Canonical(buffer[at(v, p.Row, p.Col)]))
 	}
 	return m
+}
+
+// Put writes a matrix into the places of a buffer that a view that fits names for it.
+func Put(buffer []uint64, v api.View, m matrix.Matrix) {
+	for p := range m.Places(api.RowBox) {
+		buffer[at(v, p.Row, p.Col)] = m.At(p)
+	}
 }

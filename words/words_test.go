@@ -20,6 +20,30 @@ func TestAppend(t *testing.T) {
 	}
 }
 
+func TestCut(t *testing.T) {
+	list := []byte{0xef, 0xcd, 0xab, 0x89, 0x67, 0x45, 0x23, 0x81, 0xff, 0x01}
+	checkCut[uint8](t, list, 0xef)
+	checkCut[uint16](t, list, 0xcdef)
+	checkCut[named](t, list, 0xcdef)
+	checkCut[uint32](t, list, 0x89abcdef)
+	checkCut[uint64](t, list, 0x8123456789abcdef)
+	checkCut[uint64](t, list[2:], 0x01ff8123456789ab)
+	checkCut[uint16](t, list[8:], 0x01ff)
+	checkCut[uint8](t, list[9:], 1)
+}
+
+// checkCut also puts the word back.
+func checkCut[W Word](t *testing.T, list []byte, want W) {
+	t.Helper()
+	before := bytes.Clone(list)
+	got, rest := Cut[W](list)
+	if got != want {
+		t.Errorf("the word that %x begins with: %x, want %x", list, got, want)
+	}
+	check(t, append(Append(nil, got), rest...), before)
+	check(t, list, before)
+}
+
 func check(t *testing.T, got, want []byte) {
 	t.Helper()
 	if !bytes.Equal(got, want) {
